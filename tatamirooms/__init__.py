@@ -1,0 +1,1 @@
+"""Tatami floors of any room, told by their border."""

@@ -1,0 +1,91 @@
+"""RIMS, and FLOORS read from their BORDERS."""
+
+from tatamirooms.errors import CanNot
+from tatamirooms.floors import all_floors, mats, need_floor
+from tatamirooms.grid import rim_of, table_of
+from tatamirooms.plain import as_told, need_room, needed, plain_kinds
+from tatamirooms.steps import let_table, rounds
+from tatamirooms.sweep import floors_kept
+
+
+def border_of(room, floor):
+    """The BORDER of floor, of plain values."""
+    kinds = dict(zip(room, floor))
+    return tuple([kinds[square] for square in rim_of(room)])
+
+
+def plain_border(room, value):
+    """A tuple of KINDS, one for each SQUARE of the RIM; None for what is none."""
+    return plain_kinds(value, len(rim_of(room)))
+
+
+def lets_of(room, kinds):
+    """The LETS that name each SQUARE of the RIM with its KIND."""
+    return tuple([(square, (kind,)) for square, kind in zip(rim_of(room), kinds)])
+
+
+def floor_with(room, kinds):
+    """The FLOOR whose BORDER is kinds, None if there is none."""
+    remains = let_table(room, lets_of(room, kinds))
+    # What ROUNDS strike no such FLOOR has, and with little left the sweep is quick also in great ROOMS.
+    rounds(room, remains)
+    floors = floors_kept(room, remains, 1)
+    return floors[0] if floors else None
+
+
+def border(room, floor):
+    """The BORDER of floor."""
+    room = need_room(room)
+    return border_of(room, need_floor(room, floor))
+
+
+def inside(room, border):
+    """The FLOOR whose BORDER is border; CanNot() if there is none."""
+    room = need_room(room)
+    floor = floor_with(room, needed(plain_border(room, border)))
+    if floor is None:
+        raise CanNot()
+    return floor
+
+
+def is_border(room, thing):
+    """Whether thing is the BORDER of a FLOOR of room."""
+    room = need_room(room)
+    kinds = plain_border(room, thing)
+    return as_told(kinds, thing) and floor_with(room, kinds) is not None
+
+
+def border_lets(room, border):
+    """The LETS that name each SQUARE of the RIM, its KIND alone."""
+    room = need_room(room)
+    return lets_of(room, needed(plain_border(room, border)))
+
+
+def why_no_border(room, border):
+    """STEPS of border_lets behind which some SQUARE has no KIND left; CanNot() if ROUNDS leave each one."""
+    room = need_room(room)
+    remains = let_table(room, lets_of(room, needed(plain_border(room, border))))
+    done = rounds(room, remains)
+    if all([remains[square] for square in room]):
+        raise CanNot()
+    return tuple(done)
+
+
+def rim_mats(room, floor):
+    """The set of the MATS of floor that have a SQUARE of the RIM."""
+    room = need_room(room)
+    held = table_of(rim_of(room))
+    return tuple([mat for mat in mats(room, floor) if any([square in held for square in mat])])
+
+
+def inner_mats(room, floor):
+    """The set of the MATS of floor that have no SQUARE of the RIM."""
+    own = table_of(rim_mats(room, floor))
+    return tuple([mat for mat in mats(room, floor) if mat not in own])
+
+
+def borders(room):
+    """The list, ascending, of the BORDERS of all FLOORS; TooMany() as all_floors."""
+    floors = all_floors(room)
+    room = need_room(room)
+    return sorted([border_of(room, floor) for floor in floors])

@@ -1,0 +1,57 @@
+"""Each example of the document, with what it must give, or the error with its values."""
+
+import importlib
+import os
+import unittest
+
+MODULES = ("errors", "signs", "rooms", "kinds", "floors", "mirrored", "rims", "steps")
+
+
+def examples():
+    """The pairs (what is done, what must come of it), in order, with the names of all modules."""
+    path = os.path.join(os.path.dirname(__file__), "examples.txt")
+    with open(path, encoding="ascii") as text:
+        rows = [row.rstrip("\n") for row in text]
+    found = []
+    for at, row in enumerate(rows):
+        if row.startswith(">>> "):
+            told = rows[at + 1] if at + 1 < len(rows) and not rows[at + 1].startswith((">>> ", "#")) else ""
+            found.append((row[4:], told))
+    return found
+
+
+def names():
+    found = {}
+    for module in MODULES:
+        found.update(vars(importlib.import_module("tatamirooms." + module)))
+    return found
+
+
+def outcome(work, known):
+    """What work gives, or the error that it raises, told as the document does."""
+    try:
+        return eval(work, known)
+    except (LookupError, ValueError) as raised:
+        told = ", ".join(f"{name}={value!r}" for name, value in vars(raised).items())
+        return f"raises {type(raised).__name__}({told})"
+
+
+class Examples(unittest.TestCase):
+    def test_each_example(self):
+        known = names()
+        asked = 0
+        for work, told in examples():
+            if not told:
+                exec(work, known)
+                continue
+            with self.subTest(work=work):
+                given = outcome(work, known)
+                wanted = told if told.startswith("raises ") else eval(told, known)
+                self.assertEqual(given, wanted)
+                self.assertEqual(repr(given), repr(wanted))
+                asked += 1
+        self.assertEqual(asked, 55)
+
+
+if __name__ == "__main__":
+    unittest.main()

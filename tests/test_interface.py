@@ -1,0 +1,84 @@
+"""The names, files and arguments of the interface, and the errors [27]."""
+
+import importlib
+import inspect
+import unittest
+
+from tatamirooms import errors
+
+INTERFACE = {
+    "signs": {"words": "text", "text_of": "words", "number_of": "word", "word_of": "number"},
+    "rooms": {
+        "is_room": "thing", "is_square": "room thing", "beside": "room square", "around": "room square",
+        "rim": "room", "inner": "room", "points": "room", "about": "room point", "sizes": "room", "pieces": "room",
+        "pillars": "room", "box_of": "room", "boxed": "high wide", "square_more": "room square",
+        "square_less": "room square"},
+    "kinds": {
+        "is_kind": "thing", "is_laid": "room thing", "is_spot": "room thing", "kinds_at": "room square",
+        "joined_with": "room square kind", "fits_east": "kind other", "fits_south": "kind other",
+        "point_fits": "kinds", "spots": "room", "spots_at": "room square", "fits_at": "room laid spot",
+        "fitting": "room spot"},
+    "floors": {
+        "is_floor": "room thing", "all_mats": "room", "mats": "room floor", "by_mats": "room lot",
+        "kind_of": "room floor square", "mat_of": "room floor square", "how_many_half": "room floor",
+        "flaws": "room laid", "first_flaw": "room laid", "courses": "room number", "some_floor": "room",
+        "all_floors": "room"},
+    "mirrored": {
+        "moved": "room number", "square_moved": "room square number", "floor_moved": "room floor number",
+        "move_back": "number", "moves_put": "number many", "moves_of": "room", "seen_alike": "room other",
+        "least_seen": "room", "floors_alike": "room floor other"},
+    "rims": {
+        "border": "room floor", "inside": "room border", "is_border": "room thing", "border_lets": "room border",
+        "why_no_border": "room border", "rim_mats": "room floor", "inner_mats": "room floor", "borders": "room"},
+    "steps": {
+        "spots_against": "room lets square kind", "steps": "room lets", "is_steps": "room lets thing",
+        "left_by": "room lets steps", "left": "room lets", "falls": "room lets", "next_sure": "room lets",
+        "all_sure": "room lets"},
+}
+
+ERRORS = {
+    "NoPoint": (LookupError, ("point",)), "NoSquare": (LookupError, ("square",)), "NothingDone": (LookupError, ()),
+    "BadText": (ValueError, ("line",)), "Broken": (ValueError, ("number",)), "CanNot": (ValueError, ()),
+    "TooMany": (ValueError, ()), "Unfit": (ValueError, ()),
+}
+
+
+class Interface(unittest.TestCase):
+    def test_each_function_stands_in_its_file_with_its_arguments(self):
+        for module, functions in INTERFACE.items():
+            own = importlib.import_module("tatamirooms." + module)
+            for name, arguments in functions.items():
+                with self.subTest(module=module, name=name):
+                    function = getattr(own, name)
+                    self.assertEqual(function.__module__, "tatamirooms." + module)
+                    self.assertEqual(list(inspect.signature(function).parameters), arguments.split())
+
+
+class Errors(unittest.TestCase):
+    def test_each_error_has_its_base_alone(self):
+        for name, (base, _) in ERRORS.items():
+            with self.subTest(name=name):
+                self.assertEqual(getattr(errors, name).__bases__, (base,))
+                self.assertEqual(getattr(errors, name).__module__, "tatamirooms.errors")
+
+    def test_each_error_keeps_its_values(self):
+        for name, (_, values) in ERRORS.items():
+            with self.subTest(name=name):
+                made = getattr(errors, name)
+                told = [(7, 8)] * len(values)
+                for error in (made(*told), made(**dict(zip(values, told)))):
+                    self.assertEqual(vars(error), dict(zip(values, told)))
+
+    def test_errors_take_no_other_values(self):
+        for name, (_, values) in ERRORS.items():
+            with self.subTest(name=name), self.assertRaises(TypeError):
+                getattr(errors, name)(*[0] * (len(values) + 1))
+
+    def test_errors_are_caught_by_their_base(self):
+        for name, (base, values) in ERRORS.items():
+            with self.subTest(name=name), self.assertRaises(base):
+                raise getattr(errors, name)(*[0] * len(values))
+
+
+if __name__ == "__main__":
+    unittest.main()
