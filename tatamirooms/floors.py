@@ -1,19 +1,18 @@
 """FLOORS of a ROOM, and the MATS of which they are made."""
 
 from tatamirooms.errors import CanNot, TooMany
-from tatamirooms.grid import BACK, EAST, SOUTH, flaws_of, pairs_of, table_of, toward
+from tatamirooms.grid import ALL_KINDS, BACK, EAST, SOUTH, flaws_of, is_whole, pairs_of, table_of, toward
+from tatamirooms.passage import Passage, check_lines
 from tatamirooms.plain import (
     as_told, check_square, need_pair, need_room, needed, plain_kinds, plain_number, plain_pairs, plain_set)
-from tatamirooms.sweep import floors_kept, most_alike
 
-LONGEST_LINE = 7
 MOST_FLOORS = 2000
 
 
 def plain_floor(room, value):
     """A FLOOR of room, read; None for what is none."""
     laid = plain_kinds(value, len(room))
-    if laid is None or flaws_of(room, laid):
+    if laid is None or not is_whole(room, laid):
         return None
     return laid
 
@@ -70,7 +69,7 @@ def by_mats(room, lot):
     if tuple(sorted([square for square, _ in lain])) != room:
         raise CanNot()
     laid = tuple([kind for _, kind in sorted(lain)])
-    if flaws_of(room, laid):
+    if not is_whole(room, laid):
         raise CanNot()
     return laid
 
@@ -134,9 +133,8 @@ def some_floor(room):
 def all_floors(room):
     """The list, ascending, of all FLOORS; TooMany() if room is too great, or they are more than 2,000."""
     room = need_room(room)
-    if min(most_alike([x for x, _ in room]), most_alike([y for _, y in room])) > LONGEST_LINE:
+    check_lines(room)
+    passage = Passage(room, {square: ALL_KINDS for square in room}, either=True)
+    if passage.many() > MOST_FLOORS:
         raise TooMany()
-    floors = floors_kept(room, {square: tuple(range(5)) for square in room}, MOST_FLOORS)
-    if floors is None:
-        raise TooMany()
-    return floors
+    return passage.floors()

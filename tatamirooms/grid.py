@@ -4,6 +4,7 @@ EAST = 1
 SOUTH = 2
 WEST = 3
 NORTH = 4
+ALL_KINDS = (0, 1, 2, 3, 4)
 TOWARD = ((0, 0), (1, 0), (0, 1), (-1, 0), (0, -1))
 BACK = (0, 3, 4, 1, 2)
 SIDES = ((-1, 0), (0, -1), (0, 1), (1, 0))
@@ -32,9 +33,10 @@ def table_of(room):
 
 
 def inner_of(room):
-    """The set of the inner SQUARES."""
-    own = table_of(room)
-    return tuple([square for square in room if len(within(own, pushed(square, AROUND))) == 8])
+    """The set of the inner SQUARES: those all four corners of which are POINTS."""
+    points = table_of(points_of(room))
+    return tuple([(x, y) for x, y in room if (x, y) in points and (x + 1, y) in points
+                  and (x, y + 1) in points and (x + 1, y + 1) in points])
 
 
 def rim_of(room):
@@ -52,7 +54,7 @@ def four_about(point):
 def points_of(room):
     """The set of the POINTS; each stands where the SQUARE southeast of it does."""
     own = table_of(room)
-    return tuple([square for square in room if len(within(own, four_about(square))) == 4])
+    return tuple([(x, y) for x, y in room if (x - 1, y) in own and (x, y - 1) in own and (x - 1, y - 1) in own])
 
 
 def pairs_of(room):
@@ -120,6 +122,32 @@ def flaws_of(room, laid):
                   if not spot_fits(kinds, spot, [kinds[square] for square in spot])])
 
 
+def is_whole(room, laid):
+    """Whether laid is a FLOOR: as flaws_of, but told SQUARE by SQUARE, and without a list of the flaws."""
+    kinds = dict(zip(room, laid))
+    for (x, y), kind in kinds.items():
+        if kind and kinds.get(toward((x, y), kind)) != BACK[kind]:
+            return False
+        if (x - 1, y) in kinds and (x, y - 1) in kinds and (x - 1, y - 1) in kinds:
+            if not four_fit((kinds[x - 1, y - 1], kinds[x - 1, y], kinds[x, y - 1], kind)):
+                return False
+    return True
+
+
 def kinds_in(room, square):
     """The set of the KINDS that fit at square alone."""
     return tuple([kind for kind in range(5) if stays(room, square, kind)])
+
+
+def let_table(room, lets):
+    """A dict of the KINDS that lets let at each SQUARE of room."""
+    remains = {square: ALL_KINDS for square in room}
+    for square, kinds in lets:
+        remains[square] = kinds
+    return remains
+
+
+def keeps(room, lets, floor):
+    """Whether floor has at each SQUARE that lets name one of its KINDS."""
+    laid = dict(zip(room, floor))
+    return all([laid[square] in kinds for square, kinds in lets])

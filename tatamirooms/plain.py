@@ -44,9 +44,8 @@ def plain_pair(value):
     """A pair of numbers."""
     if not isinstance(value, (list, tuple)) or len(value) != 2:
         return None
-    if not is_number(value[0]) or not is_number(value[1]):
-        return None
-    return value[0], value[1]
+    x, y = value
+    return (x, y) if is_number(x) and is_number(y) else None
 
 
 def plain_square(value):
@@ -61,13 +60,8 @@ def plain_items(value, read):
     """A tuple of what read makes of each item of a list or a tuple."""
     if not isinstance(value, (list, tuple)):
         return None
-    found = []
-    for item in value:
-        plain = read(item)
-        if plain is None:
-            return None
-        found.append(plain)
-    return tuple(found)
+    found = [read(item) for item in value]
+    return None if None in found else tuple(found)
 
 
 def plain_set(value, read):
@@ -92,7 +86,7 @@ def plain_kinds(value, many):
     """A tuple of so many KINDS."""
     if not isinstance(value, (list, tuple)) or len(value) != many:
         return None
-    return plain_items(value, plain_kind)
+    return tuple(value) if all([is_number(kind) and 0 <= kind <= 4 for kind in value]) else None
 
 
 def plain_let(value):
@@ -118,9 +112,27 @@ def plain_lets(room, value):
     return lets
 
 
+def plain_squares(room, value):
+    """A set of SQUARES of a ROOM."""
+    squares = plain_set(value, plain_pair)
+    if squares is None or not all([square in room for square in squares]):
+        return None
+    return squares
+
+
 def need_room(value):
     """The ROOM that value is, else Unfit()."""
     return needed(plain_room(value))
+
+
+def need_number(value):
+    """The number that value is, else Unfit()."""
+    return needed(value if is_number(value) else None)
+
+
+def need_from(value, least):
+    """The number from least on that value is, else Unfit()."""
+    return needed(plain_number(value, least))
 
 
 def need_pair(value):
@@ -133,9 +145,19 @@ def need_kind(value):
     return needed(plain_kind(value))
 
 
+def need_kinds(value, many):
+    """The tuple of so many KINDS that value is, else Unfit()."""
+    return needed(plain_kinds(value, many))
+
+
 def need_lets(room, value):
     """The LETS of room that value is, else Unfit()."""
     return needed(plain_lets(room, value))
+
+
+def need_lets_in_any_order(room, value):
+    """As need_lets, but the pairs need not stand ascending: so an example of [12] hands them in."""
+    return need_lets(room, sorted(needed(plain_items(value, plain_let))))
 
 
 def check_square(room, square):

@@ -3,9 +3,9 @@
 from tatamirooms.errors import CanNot
 from tatamirooms.floors import all_floors, mats, need_floor
 from tatamirooms.grid import rim_of, table_of
+from tatamirooms.masks import kinds_of, let_masks, rounds
+from tatamirooms.passage import Passage
 from tatamirooms.plain import as_told, need_room, needed, plain_kinds
-from tatamirooms.steps import let_table, rounds
-from tatamirooms.sweep import floors_kept
 
 
 def border_of(room, floor):
@@ -26,11 +26,17 @@ def lets_of(room, kinds):
 
 def floor_with(room, kinds):
     """The FLOOR whose BORDER is kinds, None if there is none."""
-    remains = let_table(room, lets_of(room, kinds))
-    # What ROUNDS strike no such FLOOR has, and with little left the sweep is quick also in great ROOMS.
-    rounds(room, remains)
-    floors = floors_kept(room, remains, 1)
-    return floors[0] if floors else None
+    masks = let_masks(room, lets_of(room, kinds))
+    rounds(room, masks, whole=False)
+    remains = {square: kinds_of(masks[square]) for square in room}
+    many = [len(remains[square]) for square in room]
+    if 0 in many:
+        return None
+    # One KIND each is a FLOOR. In every BORDER tried ROUNDS alone decided; what they might leave is gone through.
+    if max(many) == 1:
+        return tuple([remains[square][0] for square in room])
+    passage = Passage(room, remains, either=True)
+    return passage.floor(0) if passage.many() else None
 
 
 def border(room, floor):
@@ -64,9 +70,9 @@ def border_lets(room, border):
 def why_no_border(room, border):
     """STEPS of border_lets behind which some SQUARE has no KIND left; CanNot() if ROUNDS leave each one."""
     room = need_room(room)
-    remains = let_table(room, lets_of(room, needed(plain_border(room, border))))
-    done = rounds(room, remains)
-    if all([remains[square] for square in room]):
+    masks = let_masks(room, lets_of(room, needed(plain_border(room, border))))
+    done = rounds(room, masks, whole=False)
+    if all([masks[square] for square in room]):
         raise CanNot()
     return tuple(done)
 
@@ -88,4 +94,8 @@ def borders(room):
     """The list, ascending, of the BORDERS of all FLOORS; TooMany() as all_floors."""
     floors = all_floors(room)
     room = need_room(room)
-    return sorted([border_of(room, floor) for floor in floors])
+    edge = table_of(rim_of(room))
+    places = [at for at, square in enumerate(room) if square in edge]
+    if len(places) == len(room):
+        return floors
+    return sorted([tuple([floor[at] for at in places]) for floor in floors])

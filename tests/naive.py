@@ -173,10 +173,30 @@ def grown_room(chance, many):
     return tuple(sorted(found))
 
 
+def low_room(chance, many):
+    """A ROOM of so many SQUARES, with pillars and in pieces, no COLUMN of which has more than 7."""
+    wide = 1 + many // 5
+    squares = [(x, y) for x in range(wide) for y in range(7)]
+    east, south = chance.randrange(20), chance.randrange(20)
+    return tuple(sorted((x + east, y + south) for x, y in chance.sample(squares, min(many, len(squares)))))
+
+
 def some_lets(chance, room):
     """LETS of room, told by chance."""
     named = [square for square in room if chance.random() < 0.5]
     return tuple((square, tuple(k for k in range(5) if chance.random() < 0.6)) for square in named)
+
+
+def kept_by(floors, room, lets):
+    """Those of floors that keep lets."""
+    table = dict(lets)
+    return [floor for floor in floors
+            if all(kind in table.get(square, range(5)) for square, kind in zip(room, floor))]
+
+
+def long_cross(many):
+    """A ROOM with so many SQUARES in one COLUMN and in one row, no two beside one another."""
+    return tuple(sorted({(0, y) for y in range(0, 2 * many, 2)} | {(x, 0) for x in range(0, 2 * many, 2)}))
 
 
 def seeded(number):

@@ -34,6 +34,22 @@ INTERFACE = {
         "spots_against": "room lets square kind", "steps": "room lets", "is_steps": "room lets thing",
         "left_by": "room lets steps", "left": "room lets", "falls": "room lets", "next_sure": "room lets",
         "all_sure": "room lets"},
+    "unlike": {
+        "unlike": "room floor other", "far_apart": "room floor other", "rim_unlike": "room floor other",
+        "firsts": "room floor other corner", "ways_out": "room floor other square",
+        "diagonal": "room floor other square", "is_diagonal": "room floor other thing", "nearest": "room floor"},
+    "halves": {
+        "halves": "room lets", "fewest_half": "room lets", "most_half": "room lets", "with_half": "room lets number",
+        "is_with_half": "room lets number thing", "nearest_half": "room lets number", "can_be_half": "room lets lot",
+        "never_half": "room lets"},
+    "squares": {
+        "square_count": "many half", "square_all": "many", "square_halves": "many", "square_half_sum": "many",
+        "square_least": "number", "square_floor": "many half number", "square_number": "many floor",
+        "square_next": "many floor", "square_by_row": "many half kinds"},
+    "corridors": {
+        "corridor_count": "high wide", "corridor_rest": "high wide number", "corridor_rule": "high",
+        "corridor_halves": "high wide", "corridor_fewest": "high wide", "corridor_most": "high wide",
+        "corridor_ends": "high wide kinds other", "corridor_beginnings": "high wide"},
 }
 
 ERRORS = {

@@ -9,12 +9,27 @@ PACKAGE = pathlib.Path(__file__).resolve().parent.parent / "tatamirooms"
 BUILTINS = set(
     "len range enumerate zip min max sum abs sorted reversed int str bool list tuple dict set isinstance ord repr any "
     "all divmod LookupError ValueError".split())
+AT_ONCE = "list tuple dict sorted sum any all min max enumerate zip reversed".split()
 NOT_USED = (ast.Global, ast.AsyncFunctionDef, ast.Try, ast.Lambda, ast.GeneratorExp, ast.Yield, ast.Pow, ast.Div)
 
 
 def trees():
     for path in sorted(PACKAGE.glob("*.py")):
         yield path, path.read_text(encoding="ascii"), ast.parse(path.read_text(encoding="ascii"))
+
+
+def parents(tree):
+    """The pairs of a node and the one that it stands in."""
+    for above in ast.walk(tree):
+        for node in ast.iter_child_nodes(above):
+            yield node, above
+
+
+def called(node):
+    """The name of the function or the method that node calls; None if it is no call."""
+    if not isinstance(node, ast.Call):
+        return None
+    return node.func.attr if isinstance(node.func, ast.Attribute) else getattr(node.func, "id", None)
 
 
 class Language(unittest.TestCase):
@@ -50,6 +65,32 @@ class Language(unittest.TestCase):
                         name = node.id if isinstance(node, ast.Name) else node.arg
                         self.assertNotIn(name, taken)
                         self.assertFalse(hasattr(builtins, name), name)
+
+    def test_sets_and_what_is_iterated_stand_where_they_may(self):
+        for path, _, tree in trees():
+            for node, above in parents(tree):
+                if isinstance(node, ast.SetComp) or called(node) == "set":
+                    with self.subTest(path=path.name, line=node.lineno):
+                        self.assertTrue(called(above) in ("sorted", "len") or isinstance(above, (ast.Compare, ast.BinOp)))
+                if called(node) in ("zip", "enumerate", "reversed", "range", "items", "keys", "values", "map"):
+                    with self.subTest(path=path.name, line=node.lineno):
+                        self.assertTrue(
+                            isinstance(above, (ast.For, ast.comprehension)) or called(above) in AT_ONCE, called(above))
+
+    def test_stars_and_braces(self):
+        for path, _, tree in trees():
+            for node in ast.walk(tree):
+                with self.subTest(path=path.name, line=getattr(node, "lineno", 0)):
+                    if isinstance(node, ast.Call):
+                        for own in node.args:
+                            if isinstance(own, ast.Starred):
+                                self.assertIsInstance(own.value, (ast.Name, ast.Attribute))
+                        self.assertTrue(all(word.arg for word in node.keywords))
+                    if isinstance(node, ast.Constant) and isinstance(node.value, str):
+                        self.assertNotIn("%", node.value)
+                    if isinstance(node, (ast.FunctionDef, ast.ClassDef)):
+                        self.assertEqual(node.decorator_list, [])
+                        self.assertIsNotNone(ast.get_docstring(node) or node.name == "__init__" or None, node.name)
 
 
 if __name__ == "__main__":

@@ -1,0 +1,126 @@
+"""Values that are fit, and values that are not, for each argument of the interface, and things of all kinds."""
+
+from tests.naive import boxed
+
+ROOM = boxed(3, 3)
+FLOOR = (1, 2, 4, 3, 0, 1, 2, 4, 3)
+OTHER = (0, 0, 1, 2, 4, 3, 0, 2, 4)
+LETS = (((0, 0), (1,)), ((2, 0), (0, 2)))
+STEPS = (((0, 0), 1, ((0, 0), (1, 0))),)
+
+# A fit value for each argument, by its name; some functions need another one.
+FIT = {
+    "text": "room 1 # a\n2", "words": [("room", 0), ("2", 1)], "word": "12", "thing": None, "room": ROOM,
+    "square": (1, 1), "point": (1, 1), "high": 2, "wide": 3, "laid": OTHER[:8] + (1,), "spot": ((0, 0), (1, 0)),
+    "kind": 1, "other": 3, "kinds": (2, 4, 0, 0), "floor": FLOOR, "number": 2, "many": 5,
+    "lot": (((0, 0),), ((0, 1),)), "lets": LETS, "border": (1, 2, 4, 3, 1, 2, 4, 3), "steps": STEPS,
+    "corner": (1, -1), "half": 1,
+}
+FIT_IN = {
+    "seen_alike": {"other": ((0, 0), (0, 1), (1, 1))}, "floors_alike": {"other": OTHER},
+    "square_more": {"square": (3, 1)}, "left_by": {"lets": (((1, 0), (0,)),)},
+    "why_no_border": {"border": (0,) * 8}, "is_steps": {"thing": STEPS, "lets": (((1, 0), (0,)),)},
+    "by_mats": {"lot": (((0, 0), (1, 0)), ((0, 1), (0, 2)), ((1, 1),), ((1, 2), (2, 2)), ((2, 0), (2, 1)))},
+    "is_room": {"thing": ROOM}, "is_square": {"thing": (2, 2)}, "is_kind": {"thing": 4},
+    "is_laid": {"thing": OTHER}, "is_spot": {"thing": ((0, 0), (0, 1))}, "is_floor": {"thing": FLOOR},
+    "is_border": {"thing": (1, 2, 4, 3, 1, 2, 4, 3)}, "next_sure": {"lets": (((0, 0), (1,)),)},
+    "unlike": {"other": OTHER}, "far_apart": {"other": OTHER}, "rim_unlike": {"other": OTHER},
+    "firsts": {"other": OTHER}, "ways_out": {"other": OTHER}, "diagonal": {"other": OTHER},
+    "is_diagonal": {"other": OTHER, "thing": ((1, 1), (-1, -1))},
+    "with_half": {"number": 1}, "is_with_half": {"number": 1, "thing": FLOOR},
+    "can_be_half": {"lot": ((1, 1),)}, "square_floor": {"many": 3}, "square_number": {"many": 3},
+    "square_next": {"many": 3, "floor": OTHER}, "square_by_row": {"many": 2, "half": 2, "kinds": (0, 0)},
+    "corridor_ends": {"kinds": (0, 1), "other": (0, 3)},
+}
+
+NO_NUMBERS = [None, True, False, "1", "", 1.0, (1,), [0], {}, object(), b"1"]
+NO_PAIRS = NO_NUMBERS + [7, (), (0,), (0, 0, 0), (0, True), (False, 0), ("0", "0"), "00", (0, None), ((0, 0),), {0, 1},
+                         {0: 0, 1: 1}, (0.0, 0), b"00"]
+NO_ROOMS = NO_NUMBERS + [
+    7, (), [], (0, 0), ((0, 0), (0, 0)), ((1, 0), (0, 0)), ((0, 1), (0, 0)), ((0, 0), (-1, 0)), ((-1, 0),), ((0, -1),),
+    ((0, True),), ((0, 0), (0, True)), ((0, 0, 0),), ((0,),), ((0, "0"),), (None,), ((0, 0), None), "ab", ("00",),
+    {(0, 0)}, {(0, 0): 1}, (((0, 0), (0, 1)),), ((0, 0.0),)]
+NO_KINDS = NO_NUMBERS + [-1, 5, 10 ** 30]
+
+
+def no_rows(many):
+    """What is no tuple of so many KINDS."""
+    good = [0] * many
+    return NO_NUMBERS + [7, good + [0], good[1:], good[1:] + [5], good[1:] + [-1], good[1:] + [True],
+                         good[1:] + [None], [False] * many, "0" * many, b"0" * many, {0: 1}]
+
+
+NO_FLOORS = no_rows(9) + [(0,) * 9, OTHER[:8] + (1,), (3,) + OTHER[1:], FLOOR[:8] + (0,)]
+NO_LETS = NO_NUMBERS + [
+    7, (None,), ((0, 0),), (((0, 0),),), (((0, 0), 1),), (((0, 0), (1,), 0),), (((0, 0), (5,)),), (((0, 0), (-1,)),),
+    (((0, 0), (2, 1)),), (((0, 0), (1, 1)),), (((0, 0), (True,)),), (((3, 0), (0,)),), (((0, -1), (0,)),),
+    (((0, 0), (0,)), ((0, 0), (1,))), (((0, 1), (0,)), ((0, 0), (0,))), (((0, 0), (0,)), ((0, 0), (0,))), "ab",
+    ((("0", 0), (0,)),), (((0, True), (0,)),), {((0, 0), (0,))}, (((0, 0), "1"),), (((0, 0), None),)]
+NO_LOTS = NO_NUMBERS + [
+    7, (None,), ((0, 0),), (((0, 0), (1, 1)),), (((1, 0), (0, 0)),), (((0, 0), (0, 0)),), (((0, 0), (0, 1), (0, 2)),),
+    (((3, 0),),), (((2, 0), (3, 0)),), (((0, 1),), ((0, 0),)), (((0, 0),), ((0, 0),)), ((),), "ab", (((0, True),),)]
+NO_SPOTS = NO_NUMBERS + [
+    7, (), (None,), (0, 0), ((0, 0), (1, 1)), ((1, 0), (0, 0)), ((0, 0), (0, 0)), ((0, 0), (0, 2)), ((3, 0),),
+    ((2, 0), (3, 0)), ((0, 0), (0, 1), (1, 0)), ((0, 1), (0, 0), (1, 0), (1, 1)), "ab", ((0, True),), ((0, -1),),
+    ((2, 2), (2, 3), (3, 2), (3, 3)), ((0, 0), (0, 1), (1, 0), (1, 1), (1, 2)), {(0, 0)}]
+NO_CORNERS = NO_PAIRS + [(0, 0), (1, 0), (0, -1), (1, 2), (-2, 1), (1, True), (True, True), (1, 1, 1), (1, -1.0)]
+NO_SQUARES = NO_NUMBERS + [
+    7, (0, 0), (None,), ((0, 0), 7), ((3, 0),), ((0, -1),), ((1, 0), (0, 0)), ((0, 1), (0, 0)), ((0, 0), (0, 0)),
+    ((0, True),), ((0, 0, 0),), ((0,),), (("0", 0),), "ab", {(0, 0)}, {(0, 0): 1}, (((0, 0),),), ((0, 0), None)]
+# Halves alone take LETS whose pairs do not stand ascending.
+NO_LETS_AT_ALL = [lets for lets in NO_LETS if lets != (((0, 1), (0,)), ((0, 0), (0,)))]
+NO_STEPS = NO_NUMBERS + [
+    7, (None,), ((0, 0),), (((0, 0), 1),), (((0, 0), 2, ((0, 0), (0, 1))),), (((0, 0), 1, ((0, 0),)),),
+    STEPS + STEPS, (((0, 0), 1, ((1, 0), (0, 0))),), (((9, 0), 1, ((0, 0),)),), (((0, 0), True, ((0, 0), (1, 0))),),
+    (((0, 0), 1, ((0, 0), (1, 0)), 0),), (((0, 0), 7, ((0, 0),)),), "abc"]
+NO_WORDS = NO_NUMBERS[:2] + [
+    7, [None], ["ab"], [("a", 0, 0)], [("a",)], [("", 0)], [("A", 0)], [("a b", 0)], [("a", -1)], [("a", True)],
+    [("a", "0")], [("a", 1), ("b", 0)], [(0, 0)], [("a#", 0)], [("a\n", 0)]]
+
+NOT_FIT = {
+    "words": NO_WORDS, "room": NO_ROOMS, "square": NO_PAIRS, "point": NO_PAIRS, "high": NO_NUMBERS + [0, -1],
+    "wide": NO_NUMBERS + [0, -1], "laid": no_rows(9), "spot": NO_SPOTS, "kind": NO_KINDS, "other": NO_KINDS,
+    "kinds": no_rows(4), "floor": NO_FLOORS, "number": NO_NUMBERS + [-1, 8], "many": NO_NUMBERS + [-1, 8],
+    "lot": NO_LOTS, "lets": NO_LETS, "border": no_rows(8), "steps": NO_STEPS,
+    "corner": NO_CORNERS, "half": NO_NUMBERS + [-1],
+}
+NOT_FIT_IN = {
+    "seen_alike": {"other": NO_ROOMS}, "floors_alike": {"other": NO_FLOORS},
+    "courses": {"number": NO_NUMBERS + [-1, 4, 5]}, "square_more": {"square": NO_PAIRS + [(-1, 0), (0, -1)]},
+    "corridor_rest": {"number": NO_NUMBERS + [0, -1]}, "corridor_ends": {"kinds": no_rows(2), "other": no_rows(2)},
+    "square_by_row": {"many": NO_NUMBERS + [0, -1, 1, 3], "kinds": no_rows(2)},
+    "square_least": {"number": NO_NUMBERS + [-1]},
+    "square_floor": {"many": NO_NUMBERS + [0, -1], "number": NO_NUMBERS + [-1]},
+    "square_number": {"many": NO_NUMBERS + [0, -1, 2, 4, 10 ** 20]},
+    "square_next": {"many": NO_NUMBERS + [0, -1, 2, 4, 10 ** 20]},
+}
+for _name in ("unlike", "far_apart", "rim_unlike", "firsts", "ways_out", "diagonal", "is_diagonal"):
+    NOT_FIT_IN[_name] = {"other": NO_FLOORS}
+for _name in ("halves", "fewest_half", "most_half", "with_half", "is_with_half", "nearest_half", "can_be_half",
+              "never_half"):
+    NOT_FIT_IN[_name] = {"lets": NO_LETS_AT_ALL, "number": NO_NUMBERS, "lot": NO_SQUARES}
+for _name in ("square_count", "square_all", "square_halves", "square_half_sum"):
+    NOT_FIT_IN[_name] = {"many": NO_NUMBERS + [0, -1]}
+NOT_ASKED = ("text", "word", "thing")
+NOT_ASKED_IN = {"word_of": ("number",)}
+
+# What a thing may be: values of all kinds, and some nested deep.
+DEEP = ()
+for _ in range(19):
+    DEEP = (DEEP,)
+THINGS = [
+    None, True, False, 0, 1, -1, 4, 5, 10 ** 60, "", "0", "room", (), [], (0,), [0], (True,), (0, 0), [0, 0], (0, True),
+    (True, False), ("0", "0"), (None, None), ((0, 0),), ([0, 0],), [(0, 0)], ((0, 0), 1), ((0, 0), "a"), ((0, 0), None),
+    ((0, 0), (0, "a")), ((0, 0), ("a", 0)), ((0, 0), (0, 0)), ((0, 0), (0, True)), (((0, 0), (0, 1)),), DEEP, [DEEP],
+    (0,) * 9, [0] * 9, (False,) * 9, ("0",) * 9, FLOOR, list(FLOOR), FLOOR[:8] + (None,), (10 ** 50, 0), (-1, -1),
+    (((0, 0), 1, ((0, 0), (1, 0))),), (((0, 0), True, ((0, 0), (1, 0))),), [((0, 0), 1, ((0, 0), (1, 0)))],
+    (((0, 0), 1, [(0, 0), (1, 0)]),), ((0, 1, 2),), tuple(range(1000)), "a" * 10000, (((0, 0), 2, ((0, 0),)),) * 500,
+    (1, 2, 4, 3, 1, 2, 4, 3), [1, 2, 4, 3, 1, 2, 4, 3], (True, 2, 4, 3, 1, 2, 4, 3), ((0, 0), (1, 1)), [(0, 0), (1, 1)],
+    ((0, 0), [1, 1]), ([0, 0], (1, 1)), ((0, 0), (1, True)), ((0, 0), (1, 0)), ((0, False), (1, 1)), ((9, 9), (1, 1)),
+    ((0, 0), (1, 1), (1, 1)), (True, 2, 4, 3, 0, 1, 2, 4, 3), (1, 2, 4, 3, False, 1, 2, 4, 3)]
+
+GOOD_THINGS = {
+    "is_room": [((0, 0),), ((0, 0), (1, 1)), ((0, 0), (1, 0))], "is_square": [(0, 0)], "is_kind": [0, 1, 4],
+    "is_laid": [(0,) * 9, FLOOR], "is_spot": [((0, 0),), ((0, 0), (1, 0))], "is_floor": [FLOOR],
+    "is_border": [(1, 2, 4, 3, 1, 2, 4, 3)], "is_steps": [(), STEPS], "is_diagonal": [((0, 0), (1, 1))],
+    "is_with_half": [FLOOR]}
