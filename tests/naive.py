@@ -1,5 +1,6 @@
 """The document read word by word, slowly, and the small ROOMS over which its guarantees are tried."""
 
+import functools
 import itertools
 import random
 
@@ -197,6 +198,25 @@ def kept_by(floors, room, lets):
 def long_cross(many):
     """A ROOM with so many SQUARES in one COLUMN and in one row, no two beside one another."""
     return tuple(sorted({(0, y) for y in range(0, 2 * many, 2)} | {(x, 0) for x in range(0, 2 * many, 2)}))
+
+
+TRIAL_ROOMS = TINY_ROOMS[::4] + SMALL_ROOMS[-14:] + WIDER_ROOMS
+
+
+@functools.cache
+def floors_of(room):
+    """All FLOORS of room, gone through once alone."""
+    return tuple(floors(room))
+
+
+def trials(number, many):
+    """Triples of a ROOM, LETS of it, told by chance, the same ones each time, and the FLOORS that keep them."""
+    chance = seeded(number)
+    found = []
+    for room in TRIAL_ROOMS:
+        for lets in [(), ((room[0], ()),)] + [some_lets(chance, room) for _ in range(many)]:
+            found.append((room, lets, kept_by(floors_of(room), room, lets)))
+    return found
 
 
 def seeded(number):

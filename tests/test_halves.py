@@ -10,27 +10,15 @@ from tatamirooms.halves import (
 from tatamirooms.mirrored import moved
 from tests import naive
 from tests.naive import (
-    SMALL_ROOMS, TINY_ROOMS, WIDER_ROOMS, boxed, kept_by, long_cross, low_room, seeded, some_lets)
+    SMALL_ROOMS, TRIAL_ROOMS, WIDER_ROOMS, boxed, floors_of, kept_by, long_cross, low_room, seeded, some_lets, trials)
 
 THREE = boxed(3, 3)
-ROOMS = TINY_ROOMS[::4] + SMALL_ROOMS[-14:] + WIDER_ROOMS
-FLOORS = {room: naive.floors(room) for room in ROOMS}
-
-
-def cases(many):
-    """Triples of a ROOM, LETS of it, told by chance, the same ones each time, and the FLOORS that keep them."""
-    chance = seeded(31)
-    found = []
-    for room in ROOMS:
-        for lets in [(), ((room[0], ()),)] + [some_lets(chance, room) for _ in range(many)]:
-            found.append((room, lets, kept_by(FLOORS[room], room, lets)))
-    return found
 
 
 class Halves(unittest.TestCase):
     def test_as_a_trial_of_all_floors(self):
         none = 0
-        for room, lets, floors in cases(5):
+        for room, lets, floors in trials(31, 5):
             counts = sorted({floor.count(0) for floor in floors})
             self.assertEqual(halves(room, lets), tuple(counts))
             none += not counts
@@ -46,7 +34,7 @@ class Halves(unittest.TestCase):
         self.assertGreater(none, 100)
 
     def test_a_floor_with_so_many(self):
-        for room, lets, floors in cases(4):
+        for room, lets, floors in trials(35, 4):
             counts = {floor.count(0) for floor in floors}
             for number in list(range(-1, len(room) + 2)) + [-10 ** 40, 10 ** 40]:
                 if number in counts:
@@ -61,8 +49,8 @@ class Halves(unittest.TestCase):
                         with_half(room, lets, number)
 
     def test_is_with_half_over_all_floors(self):
-        for room, lets, floors in cases(1):
-            for floor in FLOORS[room][:40]:
+        for room, lets, floors in trials(36, 1):
+            for floor in floors_of(room)[:40]:
                 for number in range(len(room) + 1):
                     wanted = floor in floors and floor.count(0) == number
                     self.assertIs(is_with_half(room, lets, number, floor), wanted)
@@ -71,7 +59,7 @@ class Halves(unittest.TestCase):
 
     def test_where_half_mats_can_lie(self):
         chance = seeded(32)
-        for room, lets, floors in cases(3):
+        for room, lets, floors in trials(37, 3):
             table = [dict(zip(room, floor)) for floor in floors]
             lots = list(itertools.chain.from_iterable(itertools.combinations(room, many) for many in range(3)))
             lots += [tuple(sorted(chance.sample(room, chance.randrange(len(room) + 1)))) for _ in range(5)] + [room]
@@ -83,7 +71,7 @@ class Halves(unittest.TestCase):
                 square for square in room if not any(laid[square] == 0 for laid in table)))
 
     def test_lets_that_let_a_square_nothing(self):
-        for room in ROOMS[::5]:
+        for room in TRIAL_ROOMS[::5]:
             lets = ((room[-1], ()),)
             self.assertEqual(halves(room, lets), ())
             self.assertEqual(never_half(room, lets), room)
@@ -102,7 +90,7 @@ class Rules(unittest.TestCase):
             self.assertTrue(is_floor(room, with_half(room, (), counts[len(counts) // 2])))
 
     def test_at_most_as_many_as_points_apart_let(self):
-        for room in ROOMS + [boxed(6, 6), boxed(7, 9), low_room(seeded(5), 90)]:
+        for room in TRIAL_ROOMS + [boxed(6, 6), boxed(7, 9), low_room(seeded(5), 90)]:
             taken, many = set(), 0
             for point in naive.points(room):
                 if not taken & set(naive.about(point)):

@@ -50,6 +50,21 @@ INTERFACE = {
         "corridor_count": "high wide", "corridor_rest": "high wide number", "corridor_rule": "high",
         "corridor_halves": "high wide", "corridor_fewest": "high wide", "corridor_most": "high wide",
         "corridor_ends": "high wide kinds other", "corridor_beginnings": "high wide"},
+    "columns": {
+        "column": "room x", "rows_at": "room lets x", "fit_behind": "room x ahead row", "reaches": "room lets",
+        "is_reaches": "room lets thing", "is_shut": "room lets", "how_far": "room lets", "rows_left": "room lets x"},
+    "counts": {
+        "how_many": "room", "how_many_with": "room lets", "by_half": "room lets", "kinds_many": "room lets square",
+        "with_row": "room lets x row"},
+    "told": {
+        "can_finish": "room lets", "finished": "room lets", "least_finished": "room lets",
+        "greatest_finished": "room lets", "is_finished": "room lets thing", "can_be": "room lets", "sure": "room lets",
+        "sure_mats": "room lets", "is_sure": "room lets square kind", "why_not": "room lets",
+        "is_why_not": "room lets thing"},
+    "drawn": {
+        "drawn": "room lets number", "lot_of": "room lets floor", "drawn_half": "room half number",
+        "lot_half": "room floor", "behind": "room lets floor", "next_kept": "room lets floor",
+        "evenly": "room lets many"},
 }
 
 ERRORS = {

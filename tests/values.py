@@ -7,6 +7,8 @@ FLOOR = (1, 2, 4, 3, 0, 1, 2, 4, 3)
 OTHER = (0, 0, 1, 2, 4, 3, 0, 2, 4)
 LETS = (((0, 0), (1,)), ((2, 0), (0, 2)))
 STEPS = (((0, 0), 1, ((0, 0), (1, 0))),)
+SHUT = (((0, 0), (1,)), ((0, 1), (0,)), ((0, 2), (0,)), ((1, 0), (1,)))
+REACHES = (((1, 0, 0),), (), ())
 
 # A fit value for each argument, by its name; some functions need another one.
 FIT = {
@@ -14,7 +16,7 @@ FIT = {
     "square": (1, 1), "point": (1, 1), "high": 2, "wide": 3, "laid": OTHER[:8] + (1,), "spot": ((0, 0), (1, 0)),
     "kind": 1, "other": 3, "kinds": (2, 4, 0, 0), "floor": FLOOR, "number": 2, "many": 5,
     "lot": (((0, 0),), ((0, 1),)), "lets": LETS, "border": (1, 2, 4, 3, 1, 2, 4, 3), "steps": STEPS,
-    "corner": (1, -1), "half": 1,
+    "corner": (1, -1), "half": 1, "x": 1, "ahead": (1, 2, 4), "row": (3, 0, 1),
 }
 FIT_IN = {
     "seen_alike": {"other": ((0, 0), (0, 1), (1, 1))}, "floors_alike": {"other": OTHER},
@@ -31,6 +33,9 @@ FIT_IN = {
     "can_be_half": {"lot": ((1, 1),)}, "square_floor": {"many": 3}, "square_number": {"many": 3},
     "square_next": {"many": 3, "floor": OTHER}, "square_by_row": {"many": 2, "half": 2, "kinds": (0, 0)},
     "corridor_ends": {"kinds": (0, 1), "other": (0, 3)},
+    "is_reaches": {"lets": SHUT, "thing": REACHES}, "is_why_not": {"lets": SHUT, "thing": REACHES},
+    "why_not": {"lets": SHUT}, "is_finished": {"thing": FLOOR}, "evenly": {"many": 3},
+    "with_row": {"row": (3, 0, 1)}, "drawn": {"number": 0}, "next_kept": {"lets": (), "floor": OTHER},
 }
 
 NO_NUMBERS = [None, True, False, "1", "", 1.0, (1,), [0], {}, object(), b"1"]
@@ -82,7 +87,7 @@ NOT_FIT = {
     "wide": NO_NUMBERS + [0, -1], "laid": no_rows(9), "spot": NO_SPOTS, "kind": NO_KINDS, "other": NO_KINDS,
     "kinds": no_rows(4), "floor": NO_FLOORS, "number": NO_NUMBERS + [-1, 8], "many": NO_NUMBERS + [-1, 8],
     "lot": NO_LOTS, "lets": NO_LETS, "border": no_rows(8), "steps": NO_STEPS,
-    "corner": NO_CORNERS, "half": NO_NUMBERS + [-1],
+    "corner": NO_CORNERS, "half": NO_NUMBERS + [-1], "x": NO_NUMBERS, "ahead": no_rows(3), "row": no_rows(3),
 }
 NOT_FIT_IN = {
     "seen_alike": {"other": NO_ROOMS}, "floors_alike": {"other": NO_FLOORS},
@@ -99,6 +104,9 @@ for _name in ("unlike", "far_apart", "rim_unlike", "firsts", "ways_out", "diagon
 for _name in ("halves", "fewest_half", "most_half", "with_half", "is_with_half", "nearest_half", "can_be_half",
               "never_half"):
     NOT_FIT_IN[_name] = {"lets": NO_LETS_AT_ALL, "number": NO_NUMBERS, "lot": NO_SQUARES}
+for _name in ("drawn", "drawn_half"):
+    NOT_FIT_IN[_name] = {"half": NO_NUMBERS, "number": NO_NUMBERS}
+NOT_FIT_IN["evenly"] = {"many": NO_NUMBERS + [0, -1, 1001, 10 ** 30]}
 for _name in ("square_count", "square_all", "square_halves", "square_half_sum"):
     NOT_FIT_IN[_name] = {"many": NO_NUMBERS + [0, -1]}
 NOT_ASKED = ("text", "word", "thing")
@@ -117,10 +125,12 @@ THINGS = [
     (((0, 0), 1, [(0, 0), (1, 0)]),), ((0, 1, 2),), tuple(range(1000)), "a" * 10000, (((0, 0), 2, ((0, 0),)),) * 500,
     (1, 2, 4, 3, 1, 2, 4, 3), [1, 2, 4, 3, 1, 2, 4, 3], (True, 2, 4, 3, 1, 2, 4, 3), ((0, 0), (1, 1)), [(0, 0), (1, 1)],
     ((0, 0), [1, 1]), ([0, 0], (1, 1)), ((0, 0), (1, True)), ((0, 0), (1, 0)), ((0, False), (1, 1)), ((9, 9), (1, 1)),
-    ((0, 0), (1, 1), (1, 1)), (True, 2, 4, 3, 0, 1, 2, 4, 3), (1, 2, 4, 3, False, 1, 2, 4, 3)]
+    ((0, 0), (1, 1), (1, 1)), (True, 2, 4, 3, 0, 1, 2, 4, 3), (1, 2, 4, 3, False, 1, 2, 4, 3),
+    REACHES, list(REACHES), (((1, 0, 0),), (), []), (((True, 0, 0),), (), ()), (([1, 0, 0],), (), ()), ([(1, 0, 0)], (), ()),
+    (((1, 0, 0),), ()), ((), (), ())]
 
 GOOD_THINGS = {
     "is_room": [((0, 0),), ((0, 0), (1, 1)), ((0, 0), (1, 0))], "is_square": [(0, 0)], "is_kind": [0, 1, 4],
     "is_laid": [(0,) * 9, FLOOR], "is_spot": [((0, 0),), ((0, 0), (1, 0))], "is_floor": [FLOOR],
     "is_border": [(1, 2, 4, 3, 1, 2, 4, 3)], "is_steps": [(), STEPS], "is_diagonal": [((0, 0), (1, 1))],
-    "is_with_half": [FLOOR]}
+    "is_with_half": [FLOOR], "is_reaches": [REACHES], "is_why_not": [REACHES], "is_finished": [FLOOR]}
