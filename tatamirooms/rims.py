@@ -5,28 +5,17 @@ from tatamirooms.floors import all_floors, mats, need_floor
 from tatamirooms.grid import rim_of, table_of
 from tatamirooms.masks import kinds_of, let_masks, rounds
 from tatamirooms.passage import Passage
-from tatamirooms.plain import as_told, need_room, needed, plain_kinds
+from tatamirooms.plain import as_told, need_kinds, need_room, plain_kinds
 
 
-def border_of(room, floor):
-    """The BORDER of floor, of plain values."""
-    kinds = dict(zip(room, floor))
-    return tuple([kinds[square] for square in rim_of(room)])
+def lets_of(edge, kinds):
+    """The LETS that name each SQUARE of a RIM with its KIND."""
+    return tuple([(square, (kind,)) for square, kind in zip(edge, kinds)])
 
 
-def plain_border(room, value):
-    """A tuple of KINDS, one for each SQUARE of the RIM; None for what is none."""
-    return plain_kinds(value, len(rim_of(room)))
-
-
-def lets_of(room, kinds):
-    """The LETS that name each SQUARE of the RIM with its KIND."""
-    return tuple([(square, (kind,)) for square, kind in zip(rim_of(room), kinds)])
-
-
-def floor_with(room, kinds):
-    """The FLOOR whose BORDER is kinds, None if there is none."""
-    masks = let_masks(room, lets_of(room, kinds))
+def floor_with(room, edge, kinds):
+    """The FLOOR that has kinds on the RIM, which is edge; None if there is none."""
+    masks = let_masks(room, lets_of(edge, kinds))
     rounds(room, masks, whole=False)
     remains = {square: kinds_of(masks[square]) for square in room}
     many = [len(remains[square]) for square in room]
@@ -42,13 +31,15 @@ def floor_with(room, kinds):
 def border(room, floor):
     """The BORDER of floor."""
     room = need_room(room)
-    return border_of(room, need_floor(room, floor))
+    kinds = dict(zip(room, need_floor(room, floor)))
+    return tuple([kinds[square] for square in rim_of(room)])
 
 
 def inside(room, border):
     """The FLOOR whose BORDER is border; CanNot() if there is none."""
     room = need_room(room)
-    floor = floor_with(room, needed(plain_border(room, border)))
+    edge = rim_of(room)
+    floor = floor_with(room, edge, need_kinds(border, len(edge)))
     if floor is None:
         raise CanNot()
     return floor
@@ -57,20 +48,22 @@ def inside(room, border):
 def is_border(room, thing):
     """Whether thing is the BORDER of a FLOOR of room."""
     room = need_room(room)
-    kinds = plain_border(room, thing)
-    return as_told(kinds, thing) and floor_with(room, kinds) is not None
+    edge = rim_of(room)
+    kinds = plain_kinds(thing, len(edge))
+    return as_told(kinds, thing) and floor_with(room, edge, kinds) is not None
 
 
 def border_lets(room, border):
     """The LETS that name each SQUARE of the RIM, its KIND alone."""
-    room = need_room(room)
-    return lets_of(room, needed(plain_border(room, border)))
+    edge = rim_of(need_room(room))
+    return lets_of(edge, need_kinds(border, len(edge)))
 
 
 def why_no_border(room, border):
     """STEPS of border_lets behind which some SQUARE has no KIND left; CanNot() if ROUNDS leave each one."""
+    lets = border_lets(room, border)
     room = need_room(room)
-    masks = let_masks(room, lets_of(room, needed(plain_border(room, border))))
+    masks = let_masks(room, lets)
     done = rounds(room, masks, whole=False)
     if all([masks[square] for square in room]):
         raise CanNot()
