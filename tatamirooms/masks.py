@@ -12,11 +12,11 @@ EAST = 2
 SOUTH = 4
 WEST = 8
 NORTH = 16
-# By these KINDS a SQUARE about a POINT is joined with none of the other three.
-NORTHWEST_FREE = HALF + WEST + NORTH
-SOUTHWEST_FREE = HALF + WEST + SOUTH
-NORTHEAST_FREE = HALF + EAST + NORTH
-SOUTHEAST_FREE = HALF + EAST + SOUTH
+# By these KINDS a SQUARE about a POINT is joined with none of the other three: by HALF, and by the two that lead away.
+NORTHWEST_FREE = 25
+SOUTHWEST_FREE = 13
+NORTHEAST_FREE = 19
+SOUTHEAST_FREE = 7
 
 
 def mask_of(kinds):

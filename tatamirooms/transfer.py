@@ -78,7 +78,8 @@ class Column:
 def columns_of(room, remains):
     """The list of the Columns of room, from the west; remains is a dict of the KINDS let at each SQUARE."""
     own = table_of(room)
-    bits = {y: 1 << at for at, y in enumerate(sorted(set([y for _, y in room])))}
+    ys = sorted(set([y for _, y in room]))
+    bits = {number: 1 << at for at, number in enumerate(ys)}
     between = {x: 0 for x, _ in room}
     for x, y in points_of(room):
         between[x] |= bits[y - 1]
