@@ -4,7 +4,7 @@ from tatamirooms.errors import CanNot
 from tatamirooms.floors import plain_floor
 from tatamirooms.grid import keeps, let_table
 from tatamirooms.passage import Passage, check_lines, only
-from tatamirooms.plain import as_told, need_lets_in_any_order, need_number, need_room, needed, plain_squares
+from tatamirooms.plain import as_told, need_lets, need_number, need_room, needed, plain_squares
 
 
 def counts_of(room, lets):
@@ -25,25 +25,25 @@ def counts_needed(room, lets):
 def halves(room, lets):
     """The set of the counts of the FLOORS that keep lets."""
     room = need_room(room)
-    return counts_of(room, need_lets_in_any_order(room, lets))
+    return counts_of(room, need_lets(room, lets))
 
 
 def fewest_half(room, lets):
     """The least of halves; CanNot() if there is none."""
     room = need_room(room)
-    return counts_needed(room, need_lets_in_any_order(room, lets))[0]
+    return counts_needed(room, need_lets(room, lets))[0]
 
 
 def most_half(room, lets):
     """The greatest of halves; CanNot() if there is none."""
     room = need_room(room)
-    return counts_needed(room, need_lets_in_any_order(room, lets))[-1]
+    return counts_needed(room, need_lets(room, lets))[-1]
 
 
 def with_half(room, lets, number):
     """A FLOOR that keeps lets, with number for its count; CanNot() if there is none."""
     room = need_room(room)
-    lets, number = need_lets_in_any_order(room, lets), need_number(number)
+    lets, number = need_lets(room, lets), need_number(number)
     check_lines(room)
     passage = Passage(room, let_table(room, lets), by_half=True, either=True)
     if not passage.many(number):
@@ -54,7 +54,7 @@ def with_half(room, lets, number):
 def is_with_half(room, lets, number, thing):
     """Whether thing is a FLOOR that keeps lets, with number for its count."""
     room = need_room(room)
-    lets, number = need_lets_in_any_order(room, lets), need_number(number)
+    lets, number = need_lets(room, lets), need_number(number)
     check_lines(room)
     floor = plain_floor(room, thing)
     return as_told(floor, thing) and keeps(room, lets, floor) and floor.count(0) == number
@@ -63,14 +63,14 @@ def is_with_half(room, lets, number, thing):
 def nearest_half(room, lets, number):
     """That one of halves which is nearest to number, of two the lesser one; CanNot() if there is none."""
     room = need_room(room)
-    lets, number = need_lets_in_any_order(room, lets), need_number(number)
+    lets, number = need_lets(room, lets), need_number(number)
     return min([(abs(half - number), half) for half in counts_needed(room, lets)])[1]
 
 
 def can_be_half(room, lets, lot):
     """Whether some FLOOR that keeps lets has half mats at all SQUARES of lot."""
     room = need_room(room)
-    lets, lot = need_lets_in_any_order(room, lets), needed(plain_squares(room, lot))
+    lets, lot = need_lets(room, lets), needed(plain_squares(room, lot))
     check_lines(room)
     remains = only(let_table(room, lets), lot, [0] * len(lot))
     return Passage(room, remains, either=True).many() > 0
@@ -79,7 +79,7 @@ def can_be_half(room, lets, lot):
 def never_half(room, lets):
     """The set of the SQUARES at which no FLOOR that keeps lets has a half mat."""
     room = need_room(room)
-    lets = need_lets_in_any_order(room, lets)
+    lets = need_lets(room, lets)
     check_lines(room)
     seen = Passage(room, let_table(room, lets), either=True).kinds_seen()
     return tuple([square for square in room if 0 not in seen[square]])

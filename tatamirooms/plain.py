@@ -155,11 +155,6 @@ def need_lets(room, value):
     return needed(plain_lets(room, value))
 
 
-def need_lets_in_any_order(room, value):
-    """As need_lets, but the pairs need not stand ascending: so an example of [12] hands them in."""
-    return need_lets(room, sorted(needed(plain_items(value, plain_let))))
-
-
 def check_square(room, square):
     """NoSquare(square) for a pair of numbers that is none of room."""
     if square not in room:

@@ -10,7 +10,8 @@ from tatamirooms.halves import (
 from tatamirooms.mirrored import moved
 from tests import naive
 from tests.naive import (
-    SMALL_ROOMS, TRIAL_ROOMS, WIDER_ROOMS, boxed, floors_of, kept_by, long_cross, low_room, seeded, some_lets, trials)
+    SMALL_ROOMS, TRIAL_ROOMS, WIDER_ROOMS, boxed, floors_of, kept_by, listed, long_cross, low_room, seeded, some_lets,
+    trials)
 
 THREE = boxed(3, 3)
 
@@ -155,18 +156,25 @@ class Refused(unittest.TestCase):
                 can_be_half(THREE, (), lot)
         self.assertIs(can_be_half(THREE, (), [[0, 0]]), True)
 
-    def test_lets_may_stand_in_any_order_here(self):
+    def test_pairs_of_lets_must_ascend(self):
         chance = seeded(34)
         for room in (THREE, boxed(2, 3)):
             for _ in range(10):
                 lets = some_lets(chance, room)
                 mixed = chance.sample(lets, len(lets))
-                self.assertEqual(halves(room, mixed), halves(room, lets))
-                self.assertEqual(never_half(room, tuple(mixed)), never_half(room, lets))
-        for lets in ((((1, 1), (0,)), ((0, 0), (1,)), ((1, 1), (0,))), (((1, 1), (0,)), ((0, 0), (1, 0))),
-                     (((1, 1), (0,)), ((0, 3), (1,)))):
-            with self.assertRaises(Unfit):
-                halves(THREE, lets)
+                if tuple(mixed) == lets:
+                    continue
+                for function, more in self.ASKED:
+                    for told in (tuple(mixed), mixed, listed(tuple(mixed))):
+                        with self.assertRaises(Unfit):
+                            function(room, told, *more)
+        for lets in ((((0, 1), (0,)), ((0, 0), (0,))), (((1, 1), (0,)), ((0, 0), (1,))), [[[2, 2], [0]], [[0, 0], [0]]],
+                     (((1, 1), (0,)), ((0, 0), (1,)), ((1, 1), (0,))), (((1, 1), (0,)), ((0, 3), (1,)))):
+            for function, more in self.ASKED:
+                # So ahead of TooMany(), too.
+                for room in (THREE, tuple(sorted(set(THREE + long_cross(8))))):
+                    with self.assertRaises(Unfit):
+                        function(room, lets, *more)
 
 
 if __name__ == "__main__":

@@ -72,8 +72,6 @@ NO_CORNERS = NO_PAIRS + [(0, 0), (1, 0), (0, -1), (1, 2), (-2, 1), (1, True), (T
 NO_SQUARES = NO_NUMBERS + [
     7, (0, 0), (None,), ((0, 0), 7), ((3, 0),), ((0, -1),), ((1, 0), (0, 0)), ((0, 1), (0, 0)), ((0, 0), (0, 0)),
     ((0, True),), ((0, 0, 0),), ((0,),), (("0", 0),), "ab", {(0, 0)}, {(0, 0): 1}, (((0, 0),),), ((0, 0), None)]
-# Halves alone take LETS whose pairs do not stand ascending.
-NO_LETS_AT_ALL = [lets for lets in NO_LETS if lets != (((0, 1), (0,)), ((0, 0), (0,)))]
 NO_STEPS = NO_NUMBERS + [
     7, (None,), ((0, 0),), (((0, 0), 1),), (((0, 0), 2, ((0, 0), (0, 1))),), (((0, 0), 1, ((0, 0),)),),
     STEPS + STEPS, (((0, 0), 1, ((1, 0), (0, 0))),), (((9, 0), 1, ((0, 0),)),), (((0, 0), True, ((0, 0), (1, 0))),),
@@ -103,7 +101,7 @@ for _name in ("unlike", "far_apart", "rim_unlike", "firsts", "ways_out", "diagon
     NOT_FIT_IN[_name] = {"other": NO_FLOORS}
 for _name in ("halves", "fewest_half", "most_half", "with_half", "is_with_half", "nearest_half", "can_be_half",
               "never_half"):
-    NOT_FIT_IN[_name] = {"lets": NO_LETS_AT_ALL, "number": NO_NUMBERS, "lot": NO_SQUARES}
+    NOT_FIT_IN[_name] = {"number": NO_NUMBERS, "lot": NO_SQUARES}
 for _name in ("drawn", "drawn_half"):
     NOT_FIT_IN[_name] = {"half": NO_NUMBERS, "number": NO_NUMBERS}
 NOT_FIT_IN["evenly"] = {"many": NO_NUMBERS + [0, -1, 1001, 10 ** 30]}
