@@ -57,6 +57,19 @@ def only(remains, squares, kinds):
             for square, own in remains.items()}
 
 
+def numbers_at(rows, place):
+    """The list, by KIND, of how many FLOORS have it at this place of their ROW, of pairs (ROW, how many have it)."""
+    found = [0] * 5
+    for row, many in rows:
+        found[row[place]] += many
+    return found
+
+
+def turned_numbers(numbers):
+    """The list, by KIND, of what stands there with x for y."""
+    return [numbers[kind] for kind in ACROSS]
+
+
 class Passage:
     """The FLOORS of room with KINDS of remains, counted by half mats, too, if that is asked for.
 
@@ -153,13 +166,24 @@ class Passage:
             begin += column.size
         return turned(self.room, found)[1] if self.across else found
 
+    def kinds_all(self):
+        """A dict, by SQUARE, of the list, by KIND, of how many FLOORS have it there."""
+        found = {}
+        begin = 0
+        for rows, column in zip(self.rows_many(), self.columns):
+            for place in range(column.size):
+                x, y = self.room[begin + place]
+                own = numbers_at(rows, place)
+                found[(y, x) if self.across else (x, y)] = turned_numbers(own) if self.across else own
+            begin += column.size
+        return found
+
     def kinds_many(self, square):
         """The list, by KIND, of how many FLOORS have it at square."""
         place = self.room.index((square[1], square[0]) if self.across else square)
-        found = [0] * 5
+        found = []
         for rows, column in zip(self.rows_many(), self.columns):
             if 0 <= place < column.size:
-                for row, many in rows:
-                    found[row[place]] += many
+                found = numbers_at(rows, place)
             place -= column.size
-        return [found[kind] for kind in ACROSS] if self.across else found
+        return turned_numbers(found) if self.across else found

@@ -52,7 +52,7 @@ class Examples(unittest.TestCase):
                 self.assertEqual(given, wanted)
                 self.assertEqual(repr(given), repr(wanted))
                 asked += 1
-        self.assertEqual(asked, 132)
+        self.assertEqual(asked, 167)
 
 
 if __name__ == "__main__":

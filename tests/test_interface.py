@@ -65,6 +65,22 @@ INTERFACE = {
         "drawn": "room lets number", "lot_of": "room lets floor", "drawn_half": "room half number",
         "lot_half": "room floor", "behind": "room lets floor", "next_kept": "room lets floor",
         "evenly": "room lets many"},
+    "shares": {
+        "share": "room square kind", "share_with": "room lets square kind", "mat_share": "room mat",
+        "half_mean": "room", "mat_mean": "room", "likeliest": "room kind", "alike_share": "room square"},
+    "pieces": {
+        "piece_counts": "room", "many_by_pieces": "room", "floor_pieces": "room floor",
+        "floor_of_pieces": "room floors", "parting": "room", "lines": "room", "clear_lines": "room floor",
+        "many_clear": "room line", "clear_share": "room line", "clear_mean": "room"},
+    "clues": {
+        "are_clues": "room thing", "clued_floor": "room lets", "two_floors": "room lets",
+        "are_two_floors": "room lets thing", "needless": "room lets", "thinned": "room lets",
+        "why_needed": "room lets square", "is_why_needed": "room lets square thing", "all_told": "room floor",
+        "rim_told": "room floor", "fewest_clues": "room floor", "is_fewest_clues": "room floor thing",
+        "least_many": "room", "hint": "room lets"},
+    "texts": {
+        "is_sheet": "thing", "sheet_text": "sheet", "read_sheet": "text", "room_text": "room", "read_room": "text",
+        "picture": "room floor", "read_picture": "text"},
 }
 
 ERRORS = {

@@ -48,7 +48,9 @@ class Language(unittest.TestCase):
         for path, _, tree in trees():
             for node in ast.walk(tree):
                 self.assertNotIsInstance(node, ast.Import)
-                if isinstance(node, ast.ImportFrom):
+                if isinstance(node, ast.ImportFrom) and node.module == "math":
+                    self.assertEqual([(own.name, own.asname) for own in node.names], [("gcd", None)])
+                elif isinstance(node, ast.ImportFrom):
                     with self.subTest(path=path.name, module=node.module):
                         self.assertEqual(node.level, 0)
                         self.assertTrue((PACKAGE / (node.module.removeprefix("tatamirooms.") + ".py")).exists())

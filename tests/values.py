@@ -9,6 +9,9 @@ LETS = (((0, 0), (1,)), ((2, 0), (0, 2)))
 STEPS = (((0, 0), 1, ((0, 0), (1, 0))),)
 SHUT = (((0, 0), (1,)), ((0, 1), (0,)), ((0, 2), (0,)), ((1, 0), (1,)))
 REACHES = (((1, 0, 0),), (), ())
+CLUES = (((0, 0), (1,)), ((1, 1), (0,)))
+BOTH = ((1, 0, 0, 3, 2, 4, 2, 4, 0), (1, 0, 1, 3, 1, 3, 0, 3, 0))
+SHEET = (((0, 0), (0, 1), (2, 1)), (((0, 1), ()), ((2, 1), (0, 3))))
 
 # A fit value for each argument, by its name; some functions need another one.
 FIT = {
@@ -17,6 +20,7 @@ FIT = {
     "kind": 1, "other": 3, "kinds": (2, 4, 0, 0), "floor": FLOOR, "number": 2, "many": 5,
     "lot": (((0, 0),), ((0, 1),)), "lets": LETS, "border": (1, 2, 4, 3, 1, 2, 4, 3), "steps": STEPS,
     "corner": (1, -1), "half": 1, "x": 1, "ahead": (1, 2, 4), "row": (3, 0, 1),
+    "mat": ((0, 0), (1, 0)), "line": (0, 1), "floors": (FLOOR,), "sheet": SHEET,
 }
 FIT_IN = {
     "seen_alike": {"other": ((0, 0), (0, 1), (1, 1))}, "floors_alike": {"other": OTHER},
@@ -35,6 +39,12 @@ FIT_IN = {
     "corridor_ends": {"kinds": (0, 1), "other": (0, 3)},
     "is_reaches": {"lets": SHUT, "thing": REACHES}, "is_why_not": {"lets": SHUT, "thing": REACHES},
     "why_not": {"lets": SHUT}, "is_finished": {"thing": FLOOR}, "evenly": {"many": 3},
+    "are_clues": {"thing": CLUES}, "clued_floor": {"lets": CLUES}, "are_two_floors": {"thing": BOTH},
+    "needless": {"lets": CLUES}, "thinned": {"lets": CLUES}, "why_needed": {"lets": CLUES}, "hint": {"lets": CLUES},
+    "is_why_needed": {"lets": CLUES, "thing": BOTH[0]}, "is_sheet": {"thing": SHEET},
+    "is_fewest_clues": {"thing": CLUES},
+    "read_sheet": {"text": "square 0 0 # a\n\nlet 0 0 1 2\n"}, "read_room": {"text": "square 3 4\nlet 3 4"},
+    "read_picture": {"text": ".o\n><\n"},
     "with_row": {"row": (3, 0, 1)}, "drawn": {"number": 0}, "next_kept": {"lets": (), "floor": OTHER},
 }
 
@@ -80,11 +90,23 @@ NO_WORDS = NO_NUMBERS[:2] + [
     7, [None], ["ab"], [("a", 0, 0)], [("a",)], [("", 0)], [("A", 0)], [("a b", 0)], [("a", -1)], [("a", True)],
     [("a", "0")], [("a", 1), ("b", 0)], [(0, 0)], [("a#", 0)], [("a\n", 0)]]
 
+NO_MATS = NO_NUMBERS + [
+    7, (), (0, 0), (None,), ((0, 0), (1, 1)), ((1, 0), (0, 0)), ((0, 0), (0, 0)), ((0, 0), (0, 2)), ((3, 0),), ((0, -1),),
+    ((2, 0), (3, 0)), ((0, 0), (0, 1), (0, 2)), ((0, True),), ((0, 0, 0),), "ab", {(0, 0)}, (((0, 0),),)]
+NO_LINES = NO_PAIRS + [(0, 0), (0, 3), (1, 0), (1, 3), (2, 1), (-1, 1), (0, -1), (True, 1), (0, 1, 0)]
+NO_FLOORS_OF_PIECES = NO_NUMBERS + [
+    7, (), FLOOR, (FLOOR, FLOOR), (None,), (FLOOR[:8],), ((0,) * 9,), (OTHER[:8] + (1,),), ("0" * 9,), {FLOOR},
+    {FLOOR: 1}]
+NO_SHEETS = NO_NUMBERS + [
+    7, (), ((), ()), (ROOM,), (ROOM, (), ()), (ROOM, None), (None, ()), (ROOM, (((3, 3), ()),)), (ROOM[::-1], ()),
+    (ROOM, (((0, 0), (4, 1)),)), (ROOM, (((0, 1), ()), ((0, 0), ()))), (ROOM, (((0, 0), (True,)),)), "ab", {ROOM: ()}]
+
 NOT_FIT = {
     "words": NO_WORDS, "room": NO_ROOMS, "square": NO_PAIRS, "point": NO_PAIRS, "high": NO_NUMBERS + [0, -1],
     "wide": NO_NUMBERS + [0, -1], "laid": no_rows(9), "spot": NO_SPOTS, "kind": NO_KINDS, "other": NO_KINDS,
     "kinds": no_rows(4), "floor": NO_FLOORS, "number": NO_NUMBERS + [-1, 8], "many": NO_NUMBERS + [-1, 8],
     "lot": NO_LOTS, "lets": NO_LETS, "border": no_rows(8), "steps": NO_STEPS,
+    "mat": NO_MATS, "line": NO_LINES, "floors": NO_FLOORS_OF_PIECES, "sheet": NO_SHEETS,
     "corner": NO_CORNERS, "half": NO_NUMBERS + [-1], "x": NO_NUMBERS, "ahead": no_rows(3), "row": no_rows(3),
 }
 NOT_FIT_IN = {
@@ -125,10 +147,20 @@ THINGS = [
     ((0, 0), [1, 1]), ([0, 0], (1, 1)), (None, (1, 1)), ((0, 0), (1, True)), ((0, 0), (1, 0)), ((0, False), (1, 1)), ((9, 9), (1, 1)),
     ((0, 0), (1, 1), (1, 1)), (True, 2, 4, 3, 0, 1, 2, 4, 3), (1, 2, 4, 3, False, 1, 2, 4, 3),
     REACHES, list(REACHES), (((1, 0, 0),), (), []), (((True, 0, 0),), (), ()), (([1, 0, 0],), (), ()), ([(1, 0, 0)], (), ()),
-    (((1, 0, 0),), ()), ((), (), ())]
+    (((1, 0, 0),), ()), ((), (), ()),
+    CLUES, list(CLUES), CLUES[::-1], CLUES[:1], CLUES + (((2, 2), (3,)),), CLUES + (((2, 2), (0,)),),
+    CLUES + (((2, 2), [3]),), (((0, 0), (True,)), ((1, 1), (0,))), (((0, 0), (1,)), [(1, 1), (0,)]),
+    (((0, 0), (1,)), ((1, 1), (False,))), (((0, 0), (0, 1)), ((1, 1), (0,))), (((0, 0), (1,)), ((1, 1), ())),
+    BOTH, list(BOTH), BOTH[::-1], BOTH[:1], BOTH + BOTH[:1], (BOTH[0], BOTH[0]), (BOTH[0], list(BOTH[1])), BOTH[0],
+    list(BOTH[0]), (True,) + BOTH[0][1:], (FLOOR, OTHER), (OTHER, FLOOR), ((True,) + BOTH[0][1:], BOTH[1]),
+    SHEET, list(SHEET), (list(SHEET[0]), SHEET[1]), (SHEET[0], list(SHEET[1])), SHEET[:1], SHEET + ((),), (SHEET[0], ()),
+    (SHEET[0], (((0, 2), ()),)), (SHEET[0], (((2, 1), (3, 0)),)), (SHEET[0], (((2, 1), (0, 3)), ((0, 1), ()))),
+    (SHEET[0][::-1], ()), ((), ()), (SHEET[0], (((0, 0), (False,)),))]
 
 GOOD_THINGS = {
     "is_room": [((0, 0),), ((0, 0), (1, 1)), ((0, 0), (1, 0))], "is_square": [(0, 0)], "is_kind": [0, 1, 4],
-    "is_laid": [(0,) * 9, FLOOR], "is_spot": [((0, 0),), ((0, 0), (1, 0))], "is_floor": [FLOOR],
+    "is_laid": [(0,) * 9, FLOOR, BOTH[0]], "is_spot": [((0, 0),), ((0, 0), (1, 0))], "is_floor": [FLOOR, BOTH[0]],
     "is_border": [(1, 2, 4, 3, 1, 2, 4, 3)], "is_steps": [(), STEPS], "is_diagonal": [((0, 0), (1, 1))],
-    "is_with_half": [FLOOR], "is_reaches": [REACHES], "is_why_not": [REACHES], "is_finished": [FLOOR]}
+    "is_with_half": [FLOOR], "is_reaches": [REACHES], "is_why_not": [REACHES], "is_finished": [FLOOR, BOTH[0]],
+    "are_clues": [CLUES, CLUES + (((2, 2), (3,)),)], "are_two_floors": [BOTH], "is_why_needed": [BOTH[0]],
+    "is_fewest_clues": [CLUES], "is_sheet": [SHEET, (SHEET[0], ())]}
