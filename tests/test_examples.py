@@ -1,9 +1,11 @@
 """Each example of the document, with what it must give, or the error with its values."""
 
+import doctest
 import importlib
 import os
 import unittest
 
+from tatamirooms.desk import Desk
 from tests.test_interface import INTERFACE
 
 
@@ -26,6 +28,7 @@ def names():
     for module, functions in INTERFACE.items():
         own = importlib.import_module("tatamirooms." + module)
         found.update({name: getattr(own, name) for name in functions})
+    found["Desk"] = Desk
     return found
 
 
@@ -52,7 +55,12 @@ class Examples(unittest.TestCase):
                 self.assertEqual(given, wanted)
                 self.assertEqual(repr(given), repr(wanted))
                 asked += 1
-        self.assertEqual(asked, 167)
+        self.assertEqual(asked, 195)
+
+    def test_those_of_the_readme(self):
+        path = os.path.join(os.path.dirname(os.path.dirname(os.path.abspath(__file__))), "README.md")
+        found = doctest.testfile(path, module_relative=False)
+        self.assertEqual((found.failed, found.attempted), (0, 12))
 
 
 if __name__ == "__main__":

@@ -81,6 +81,24 @@ INTERFACE = {
     "texts": {
         "is_sheet": "thing", "sheet_text": "sheet", "read_sheet": "text", "room_text": "room", "read_room": "text",
         "picture": "room floor", "read_picture": "text"},
+    "numbered": {
+        "floor_at": "room number", "floor_number": "room floor", "many_begin": "room kinds", "least_with": "room kinds",
+        "greatest_with": "room kinds", "first_floor": "room", "last_floor": "room", "next_floor": "room floor",
+        "floor_ahead": "room floor", "floors_from": "room floor many", "many_between": "room floor other",
+        "told_by": "room floor"},
+    "joined": {
+        "side_by_side": "room other down", "seam": "room other down", "seam_points": "room other down",
+        "is_west_half": "room other down thing", "is_east_half": "room other down thing",
+        "parted": "room other down floor", "seam_fits": "room other down laid other_laid",
+        "put_together": "room other down laid other_laid", "west_words": "room other down",
+        "east_words": "room other down", "many_joined": "room other down", "many_crossed": "room other down many"},
+    "judge": {
+        "is_demand": "thing", "is_so": "demand", "paper_against": "demand", "is_paper_against": "demand thing",
+        "reason_for": "demand", "is_reason_for": "demand thing", "first_fallen": "demands"},
+}
+METHODS = {
+    "Desk": {"__init__": "self room", "__eq__": "self other", "say": "self text", "room": "self", "told": "self",
+             "sure": "self", "undo": "self", "redo": "self", "twin": "self"},
 }
 
 ERRORS = {
@@ -99,6 +117,17 @@ class Interface(unittest.TestCase):
                     function = getattr(own, name)
                     self.assertEqual(function.__module__, "tatamirooms." + module)
                     self.assertEqual(list(inspect.signature(function).parameters), arguments.split())
+
+
+    def test_each_method_is_defined_in_its_class(self):
+        for name, methods in METHODS.items():
+            made = getattr(importlib.import_module("tatamirooms.desk"), name)
+            self.assertEqual(made.__module__, "tatamirooms.desk")
+            self.assertEqual(made.__bases__, (object,))
+            for method, arguments in methods.items():
+                with self.subTest(name=name, method=method):
+                    self.assertIn(method, vars(made))
+                    self.assertEqual(list(inspect.signature(vars(made)[method]).parameters), arguments.split())
 
 
 class Errors(unittest.TestCase):

@@ -10,7 +10,7 @@ BUILTINS = set(
     "len range enumerate zip min max sum abs sorted reversed int str bool list tuple dict set isinstance ord repr any "
     "all divmod LookupError ValueError".split())
 AT_ONCE = "list tuple dict sorted sum any all min max enumerate zip reversed".split()
-NOT_USED = (ast.Global, ast.AsyncFunctionDef, ast.Try, ast.Lambda, ast.GeneratorExp, ast.Yield, ast.Pow, ast.Div)
+NOT_USED = (ast.Global, ast.AsyncFunctionDef, ast.Try, ast.Lambda, ast.GeneratorExp, ast.Yield, ast.Div)
 
 
 def trees():
@@ -61,6 +61,8 @@ class Language(unittest.TestCase):
             for node in ast.walk(tree):
                 with self.subTest(path=path.name, line=getattr(node, "lineno", 0)):
                     self.assertNotIsInstance(node, NOT_USED)
+                    if isinstance(node, ast.BinOp) and isinstance(node.op, ast.Pow):
+                        self.assertIn(getattr(node.right, "value", -1), range(65))
                     if isinstance(node, ast.Name) and isinstance(node.ctx, ast.Load) and hasattr(builtins, node.id):
                         self.assertIn(node.id, BUILTINS)
                     if isinstance(node, ast.Name) and isinstance(node.ctx, ast.Store) or isinstance(node, ast.arg):
