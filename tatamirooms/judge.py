@@ -15,8 +15,8 @@ SURE = "sure"
 MANY = "many"
 CLUES = "clues"
 # How many parts a DEMAND of each word has.
-PARTS = {FLOOR: 3, REST: 3, SURE: 5, MANY: 3, CLUES: 3}
-MOST = 10 ** 40
+PARTS = {"floor": 3, "rest": 3, "sure": 5, "many": 3, "clues": 3}
+MOST = 10000000000000000000000000000000000000000
 
 
 def plain_part(word, room, value):

@@ -81,7 +81,7 @@ class Passage:
         self.across = either and lies_across(room, remains)
         if self.across:
             room, remains = turned(room, remains)
-        self.room = room
+        self.squares = room
         # A SQUARE that no mat covers yet has three KINDS at most: so no count grows beyond 4 for each SQUARE.
         self.bits = 2 * len(room) if by_half else 0
         self.columns = columns_of(room, remains)
@@ -91,7 +91,7 @@ class Passage:
         """Those of many with half half mats; all if they are not counted by half mats."""
         if self.bits == 0:
             return many
-        if not 0 <= half <= len(self.room):
+        if not 0 <= half <= len(self.squares):
             return 0
         return many >> self.bits * half & (1 << self.bits) - 1
 
@@ -101,7 +101,7 @@ class Passage:
 
     def halves(self):
         """The list, ascending, of the pairs (half, how many FLOORS have so many half mats), without those of none."""
-        pairs = [(half, self.many(half)) for half in range(len(self.room) + 1)]
+        pairs = [(half, self.many(half)) for half in range(len(self.squares) + 1)]
         return [(half, many) for half, many in pairs if many]
 
     def floor(self, number, half=0):
@@ -117,7 +117,7 @@ class Passage:
                     half = half - row.count(0)
                     break
                 number = number - many
-        return floors_turned(self.room, [laid])[0] if self.across else laid
+        return floors_turned(self.squares, [laid])[0] if self.across else laid
 
     def lesser(self, laid, half=0):
         """How many FLOORS, of those with half half mats, stand ahead of laid, whether laid is one or not."""
@@ -146,7 +146,7 @@ class Passage:
             grown = [(laid + row, at) for laid, ahead in grown for row, at in rows[ahead]]
             profiles = column.profiles
         floors = [laid for laid, _ in grown]
-        return sorted(floors_turned(self.room, floors)) if self.across else floors
+        return sorted(floors_turned(self.squares, floors)) if self.across else floors
 
     def rows_many(self):
         """For each COLUMN the list, ascending, of the pairs (ROW, how many FLOORS have it), without those of none."""
@@ -162,9 +162,9 @@ class Passage:
         begin = 0
         for rows, column in zip(self.rows_many(), self.columns):
             for place in range(column.size):
-                found[self.room[begin + place]] = tuple(sorted(set([row[place] for row, _ in rows])))
+                found[self.squares[begin + place]] = tuple(sorted(set([row[place] for row, _ in rows])))
             begin += column.size
-        return turned(self.room, found)[1] if self.across else found
+        return turned(self.squares, found)[1] if self.across else found
 
     def kinds_all(self):
         """A dict, by SQUARE, of the list, by KIND, of how many FLOORS have it there."""
@@ -172,7 +172,7 @@ class Passage:
         begin = 0
         for rows, column in zip(self.rows_many(), self.columns):
             for place in range(column.size):
-                x, y = self.room[begin + place]
+                x, y = self.squares[begin + place]
                 own = numbers_at(rows, place)
                 found[(y, x) if self.across else (x, y)] = turned_numbers(own) if self.across else own
             begin += column.size
@@ -180,7 +180,7 @@ class Passage:
 
     def kinds_many(self, square):
         """The list, by KIND, of how many FLOORS have it at square."""
-        place = self.room.index((square[1], square[0]) if self.across else square)
+        place = self.squares.index((square[1], square[0]) if self.across else square)
         found = []
         for rows, column in zip(self.rows_many(), self.columns):
             if 0 <= place < column.size:

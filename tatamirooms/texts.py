@@ -93,9 +93,10 @@ def read_room(text):
 def drawn_as(room, floor):
     """The picture of a FLOOR, of plain values."""
     kinds = dict(zip(room, floor))
+    wide, high = room[-1][0] + 1, max([y for _, y in room]) + 1
     rows = []
-    for y in range(max([y for _, y in room]) + 1):
-        rows.append("".join([SIGNS[kinds[x, y]] if (x, y) in kinds else OUTSIDE for x in range(room[-1][0] + 1)]))
+    for at in range(high):
+        rows.append("".join([SIGNS[kinds[x, at]] if (x, at) in kinds else OUTSIDE for x in range(wide)]))
     return "".join([row + "\n" for row in rows])
 
 

@@ -58,7 +58,7 @@ def can_be(room, lets):
     """The LETS that name each SQUARE with the KINDS that FLOORS have there that keep lets; CanNot() without."""
     passage = some_passage(room, lets)
     seen = passage.kinds_seen()
-    return tuple([(square, seen[square]) for square in passage.room])
+    return tuple([(square, seen[square]) for square in passage.squares])
 
 
 def sure(room, lets):
