@@ -38,7 +38,7 @@ def plain_half(room, edge, across, value):
     held = table_of(edge)
     for square, kind in kinds.items():
         leaves = kind == across and square in held
-        if kind and not leaves and kinds.get(toward(square, kind)) != BACK[kind]:
+        if not leaves and kinds.get(toward(square, kind)) != BACK[kind]:
             return None
     if not all([four_fit([kinds[square] for square in four_about(point)]) for point in points_of(room)]):
         return None

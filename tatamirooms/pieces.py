@@ -12,10 +12,7 @@ from tatamirooms.shares import reduced
 
 def piece_counts(room):
     """The list of how many FLOORS each piece has; TooMany() if a piece alone is too great."""
-    parts = pieces(room)
-    for piece in parts:
-        check_lines(piece)
-    return [how_many(piece) for piece in parts]
+    return [how_many(piece) for piece in pieces(room)]
 
 
 def many_by_pieces(room):

@@ -2,6 +2,7 @@
 
 import itertools
 import unittest
+from unittest import mock
 
 from tatamirooms.clues import (
     all_told, are_clues, are_two_floors, clued_floor, fewest_clues, hint, is_fewest_clues, is_why_needed, least_many,
@@ -254,11 +255,16 @@ class Fewest(unittest.TestCase):
         ring = tuple(square for square in boxed(5, 5) if square in naive.rim(boxed(5, 5)))
         wild = ((2, 4), (2, 5), (2, 6), (3, 3), (3, 4), (3, 6), (4, 4), (4, 5), (4, 6), (5, 3), (5, 4), (5, 6), (6, 4),
                 (6, 5), (6, 6), (7, 4))
-        for room, many in ((ring, 2207), (wild, 2001)):
+        for room, many, fewest in ((ring, 2207, 6), (wild, 2001, 5)):
             self.assertEqual((len(room), how_many(room)), (16, many))
             for function, told in ((fewest_clues, ((0,) * 16,)), (is_fewest_clues, ((0,) * 16, None)), (least_many, ())):
                 with self.assertRaises(TooMany):
                     function(room, *told)
+            # Just as many as are let are not too many.
+            with mock.patch("tatamirooms.clues.MOST_FLOORS", many):
+                self.assertEqual(least_many(room), fewest)
+            with mock.patch("tatamirooms.clues.MOST_FLOORS", many - 1), self.assertRaises(TooMany):
+                least_many(room)
             # One SQUARE less, and they are few enough.
             less = room[:-1]
             self.assertLess(how_many(less), 2000)

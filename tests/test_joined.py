@@ -24,7 +24,9 @@ PAIRS = [
     (((0, 0), (0, 2)), boxed(3, 1), 0), (((0, 0), (0, 1), (0, 3)), ((0, 0), (0, 1), (0, 3)), 0),
     (boxed(3, 1), ((4, 4), (4, 5), (4, 6), (5, 5)), -4), (((0, 1), (1, 0), (1, 1), (1, 2)), boxed(3, 1), 0),
     (((0, 0), (2, 0), (2, 1)), ((1, 0), (1, 1), (4, 4)), 0), (((0, 4), (0, 5), (1, 5)), ((9, 0), (9, 1), (10, 0)), 4),
-    (boxed(4, 1), boxed(4, 1), 0), (boxed(2, 3), boxed(1, 1), 1)]
+    (boxed(4, 1), boxed(4, 1), 0), (boxed(2, 3), boxed(1, 1), 1),
+    # Three across here cannot be: no two POINTS of the next COLUMN are both held.
+    (boxed(3, 2), boxed(3, 1), 0), (boxed(3, 1), boxed(3, 2), 0)]
 
 
 def moved(room, other, down):
